@@ -1,6 +1,6 @@
 """Programs, their names and their words."""
 
-from lasttouch.errors import InvalidNumber, InvalidProgram, TooLarge
+from lasttouch.errors import InvalidNames, InvalidNumber, InvalidProgram, InvalidWord, TooLarge
 
 LETTERS = "abcdefghijklmnopqrstuvwxyz"
 NOT_NAMES = ("skip", "start", "end")
@@ -10,6 +10,7 @@ MOST_NAMES = 6
 DEEPEST = 40
 LONGEST_LISTED = 6
 MOST_WORDS = 2000
+LONGEST_WORD = 60
 
 # States of a program under way are kept as the bits of an integer; the end is state 0.
 END = 0
@@ -26,6 +27,43 @@ def is_name(value):
 def is_integer(value, low, high):
     """Return whether the value is an integer from low to high."""
     return isinstance(value, int) and not isinstance(value, bool) and low <= value <= high
+
+
+def is_ascending(values):
+    """Return whether the values, which can be compared, are strictly ascending."""
+    return all([first < second for first, second in zip(values, values[1:])])
+
+
+def is_set(value):
+    """Return whether the value is a set of names."""
+    return isinstance(value, tuple) and all([is_name(name) for name in value]) and is_ascending(value)
+
+
+def check_set(value):
+    """Raise InvalidNames if the argument is no set of names."""
+    if not is_set(value):
+        raise InvalidNames("not a set of names")
+
+
+def is_word(value):
+    """Return whether the value is a word that may be an argument."""
+    if not isinstance(value, tuple) or len(value) > LONGEST_WORD:
+        return False
+    return all([is_name(name) for name in value]) and len(set(value)) <= MOST_NAMES
+
+
+def check_word(value):
+    """Raise InvalidWord if the argument is no word."""
+    if not is_word(value):
+        raise InvalidWord("not a word")
+
+
+def joined_names(one, other):
+    """Return the set of the names of both sets; raise TooLarge if there are more than 6."""
+    joined = tuple(sorted(set(one) | set(other)))
+    if len(joined) > MOST_NAMES:
+        raise TooLarge("more than 6 different names together")
+    return joined
 
 
 def is_program(value):

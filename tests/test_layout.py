@@ -1,6 +1,7 @@
 """Tests of the form of the package: the interface, and the rules of form that a test can see."""
 
 import ast
+import builtins
 import pathlib
 import unittest
 
@@ -10,6 +11,20 @@ PACKAGE = pathlib.Path(__file__).resolve().parent.parent / "lasttouch"
 INTERFACE = {
     "programs": {"is_program": ["value"], "names": ["program"], "reverse": ["program"], "words": ["program", "longest"]},
     "texts": {"write": ["program"], "read": ["text"]},
+    "labels": {name: [first, "labelling", "start"] for name, first in
+               [("run", "word"), ("may", "program"), ("must", "program")]},
+    "tables": {
+        "table": ["program"], "word_table": ["word"], "is_table": ["value"],
+        "may_hold": ["table", "labelling", "start"], "must_hold": ["table", "labelling", "start"],
+    },
+    "equality": {
+        "equal": ["one", "other", "sight"], "difference": ["one", "other"], "below": ["one", "other"],
+        "idle_before": ["one", "other"], "idle_behind": ["one", "other"], "exchange": ["one", "other"],
+    },
+    "sets": {
+        "is_fitting": ["table", "names"], "fitting": ["table"], "order": ["table", "names"], "is_family": ["value"],
+        "family_table": ["family", "starts"],
+    },
 }
 BARRED = (
     ast.Global, ast.AsyncFunctionDef, ast.AsyncFor, ast.AsyncWith, ast.Await, ast.GeneratorExp, ast.Div, ast.Import,
@@ -22,6 +37,22 @@ def files():
 
 def trees():
     return [(path, ast.parse(path.read_text(encoding="utf-8"))) for path in files()]
+
+
+def defined_names(tree):
+    """The names that a file gives to functions, classes and values."""
+    found = [node.name for node in tree.body if isinstance(node, (ast.FunctionDef, ast.ClassDef))]
+    return found + [node.targets[0].id for node in tree.body if isinstance(node, ast.Assign)]
+
+
+def local_names(tree):
+    """The names of parameters and local variables."""
+    found = {node.arg for node in ast.walk(tree) if isinstance(node, ast.arg)}
+    for function in ast.walk(tree):
+        if isinstance(function, ast.FunctionDef):
+            found |= {node.id for node in ast.walk(function)
+                      if isinstance(node, ast.Name) and isinstance(node.ctx, ast.Store)}
+    return found
 
 
 class Interface(unittest.TestCase):
@@ -68,6 +99,41 @@ class Form(unittest.TestCase):
                     with self.subTest(path.name, line=node.lineno):
                         self.assertEqual(node.level, 0)
                         self.assertEqual(node.module.split(".")[0], "lasttouch")
+
+    def test_imports_name_the_file_that_defines(self):
+        defined = {path.stem: defined_names(tree) for path, tree in trees()}
+        for path, tree in trees():
+            for node in ast.walk(tree):
+                if isinstance(node, ast.ImportFrom):
+                    for alias in node.names:
+                        with self.subTest(path.name, name=alias.name):
+                            self.assertIn(alias.name, defined[node.module.split(".")[1]])
+
+    def test_no_files_import_from_each_other(self):
+        imports = {path.stem: {node.module.split(".")[1] for node in ast.walk(tree) if isinstance(node, ast.ImportFrom)}
+                   for path, tree in trees()}
+        while imports:
+            free = [name for name, others in imports.items() if not others & set(imports)]
+            self.assertTrue(free, imports)
+            for name in free:
+                del imports[name]
+
+    def test_names_are_given_once(self):
+        for path, tree in trees():
+            imported = {alias.name for node in tree.body if isinstance(node, ast.ImportFrom) for alias in node.names}
+            classes = {node.name for node in tree.body if isinstance(node, ast.ClassDef)}
+            found = [alias.name for node in tree.body if isinstance(node, ast.ImportFrom) for alias in node.names]
+            with self.subTest(path.name):
+                self.assertEqual(len(set(found + defined_names(tree))), len(found + defined_names(tree)))
+                self.assertFalse(local_names(tree) & (imported | classes))
+                self.assertFalse((local_names(tree) | set(defined_names(tree))) & set(dir(builtins)))
+
+    def test_imports_are_used(self):
+        for path, tree in trees():
+            imported = [alias.name for node in tree.body if isinstance(node, ast.ImportFrom) for alias in node.names]
+            read = {node.id for node in ast.walk(tree) if isinstance(node, ast.Name)}
+            with self.subTest(path.name):
+                self.assertLessEqual(set(imported), read)
 
     def test_statements_outside_the_language(self):
         for path, tree in trees():

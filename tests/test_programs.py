@@ -2,59 +2,18 @@
 
 import copy
 import itertools
-import time
 import unittest
 
 from lasttouch.errors import InvalidNumber, InvalidProgram, TooLarge
 from lasttouch.programs import is_program, names, reverse, words
 from lasttouch.texts import read
+from tests.by_hand import Quick, small_programs, words_by_hand
 from tests.samples import A, B, C, NOT_PROGRAMS, SKIP, STRANGE, choice, deep, wide
 
 NOT_LONGEST = [-1, 7, 10 ** 999, -(10 ** 999), True, False, None, "", "3", (3,), [3], {3: 3}, (), []]
 
 # 5 * 5 * 5 * 4 * 4 words of exactly five actions.
 EXACTLY_2000 = ("seq",) + (choice("abcde"),) * 3 + (choice("abcd"),) * 2
-
-
-def small_programs(parts, letters):
-    """All programs with exactly so many parts and such names."""
-    if parts == 1:
-        return [SKIP] + [("do", letter) for letter in letters]
-    found = [("rep", inner) for inner in small_programs(parts - 1, letters)]
-    for kind in ("seq", "or"):
-        found += [(kind,) + members for members in small_members(parts - 1, letters, parts - 2)]
-    return found
-
-
-def small_members(parts, letters, most):
-    """All tuples of programs with so many parts together, none with more than most."""
-    if parts == 0:
-        return [()]
-    found = []
-    for first in range(1, min(parts, most) + 1):
-        for program in small_programs(first, letters):
-            found += [(program,) + rest for rest in small_members(parts - first, letters, most)]
-    return found
-
-
-def words_by_hand(program, longest):
-    """The set of the words, made from the words of the parts."""
-    kind = program[0]
-    if kind == "do":
-        return {(program[1],)} if longest else set()
-    if kind == "skip":
-        return {()}
-    members = [words_by_hand(member, longest) for member in program[1:]]
-    if kind == "or":
-        return set().union(*members)
-    found = {()}
-    if kind == "seq":
-        for member in members:
-            found = {one + two for one in found for two in member if len(one + two) <= longest}
-        return found
-    for _ in range(longest):
-        found |= {one + two for one in found for two in members[0] if len(one + two) <= longest}
-    return found
 
 
 def is_reversed(one, other):
@@ -65,15 +24,6 @@ def is_reversed(one, other):
         return one == other
     behind = other[:0:-1] if one[0] == "seq" else other[1:]
     return all(is_reversed(member, twin) for member, twin in zip(one[1:], behind))
-
-
-class Quick(unittest.TestCase):
-    def assert_quick(self, call, *args):
-        began = time.perf_counter()
-        try:
-            return call(*args)
-        finally:
-            self.assertLess(time.perf_counter() - began, 2)
 
 
 class IsProgram(Quick):
