@@ -75,11 +75,11 @@ def _all_names(family):
 
 def _is_built_up(bits, known, every):
     """Return whether some name can be taken away such that a known set is left."""
-    return any([bits & (1 << place) and (bits & ~(1 << place)) in known for place in range(len(every))])
+    return any([bits & (1 << place) and (bits - (1 << place)) in known for place in range(len(every))])
 
 
 def _first_places(bits, rows):
     """Return the places of the names that can stand before all others of a set that fits."""
     # In some order of the set there is enough behind each name, so there is if all others stand there.
     single = [1 << place for place in range(len(rows))]
-    return [place for place, bit in enumerate(single) if bits & bit and fits(bits & ~bit, rows)]
+    return [place for place, bit in enumerate(single) if bits & bit and fits(bits - bit, rows)]
