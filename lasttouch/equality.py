@@ -1,13 +1,11 @@
 """Which programs can be told apart, and by what."""
 
-from lasttouch.bits import contains_one, named, seq_table
+from lasttouch.bits import AT_START, is_in, least, named, seq_table
 from lasttouch.errors import InvalidSight
 from lasttouch.programs import check_program, joined_names, names, reverse
 from lasttouch.tables import bit_table, table
 
 SIGHTS = ("forward", "backward", "both")
-# Stands for the start where otherwise the place of a name stands.
-AT_START = -1
 
 
 def equal(one, other, sight):
@@ -63,15 +61,15 @@ def exchange(one, other):
 def _bit_tables(one, other):
     """Return the names of both programs and the bit tables of the two."""
     every = joined_names(names(one), names(other))
-    return every, bit_table(one, every), bit_table(other, every)
+    return every, bit_table(one, every, {}), bit_table(other, every, {})
 
 
 def _unmatched(first, second):
-    """Return the pairs of a place and a set at this place of the first bit table, for each set
-    that contains none of the sets at this place of the second one."""
-    found = [(AT_START, bits) for bits in first[0] if not contains_one(bits, second[0])]
+    """Return the pairs of a place and a least set at this place of the first bit table that is
+    none of the sets at this place of the second one."""
+    found = [(AT_START, bits) for bits in least(first[0]) if not is_in(bits, second[0])]
     for place, sets in enumerate(first[1]):
-        found.extend([(place, bits) for bits in sets if not contains_one(bits, second[1][place])])
+        found.extend([(place, bits) for bits in least(sets) if not is_in(bits, second[1][place])])
     return found
 
 

@@ -1,6 +1,6 @@
 """Programs, their names and their words."""
 
-from lasttouch.errors import InvalidNames, InvalidNumber, InvalidProgram, InvalidWord, TooLarge
+from lasttouch.errors import InvalidName, InvalidNames, InvalidNumber, InvalidProgram, InvalidWord, TooLarge
 
 LETTERS = "abcdefghijklmnopqrstuvwxyz"
 NOT_NAMES = ("skip", "start", "end")
@@ -22,6 +22,12 @@ def is_name(value):
     if not isinstance(value, str) or not 1 <= len(value) <= LONGEST_NAME or value in NOT_NAMES:
         return False
     return all([sign in LETTERS for sign in value])
+
+
+def check_name(value):
+    """Raise InvalidName if the argument is no name."""
+    if not is_name(value):
+        raise InvalidName("not a name")
 
 
 def is_integer(value, low, high):
@@ -66,21 +72,32 @@ def joined_names(one, other):
     return joined
 
 
-def is_program(value):
-    """Return whether the value is a program."""
+def parts_of(value, procedures):
+    """Return the list of the parts of a program in which these procedures may be called.
+
+    The number of different names is not looked at. For what else is no such program return None.
+    """
     waiting = [(value, 1)]
     found = []
-    parts = 0
     while waiting:
         part, depth = waiting.pop()
-        parts += 1
-        if parts > MOST_PARTS or depth > DEEPEST or not _is_part(part):
-            return False
-        if part[0] == "do" and part[1] not in found:
-            found.append(part[1])
+        found.append(part)
+        if len(found) > MOST_PARTS or depth > DEEPEST or not _is_part(part, procedures):
+            return None
         for member in _members(part):
             waiting.append((member, depth + 1))
-    return len(found) <= MOST_NAMES
+    return found
+
+
+def names_in(parts):
+    """Return the set of the names of the actions among the parts."""
+    return tuple(sorted({part[1] for part in parts if part[0] == "do"}))
+
+
+def is_program(value):
+    """Return whether the value is a program."""
+    parts = parts_of(value, ())
+    return parts is not None and len(names_in(parts)) <= MOST_NAMES
 
 
 def check_program(program):
@@ -92,12 +109,7 @@ def check_program(program):
 def names(program):
     """Return the set of the names of the program."""
     check_program(program)
-    parts = [program]
-    at = 0
-    while at < len(parts):
-        parts.extend(_members(parts[at]))
-        at += 1
-    return tuple(sorted({part[1] for part in parts if part[0] == "do"}))
+    return names_in(parts_of(program, ()))
 
 
 def reverse(program):
@@ -126,7 +138,7 @@ def words(program, longest):
     return found
 
 
-def _is_part(value):
+def _is_part(value, procedures):
     """Return whether the value has the form of a program, whatever its members are."""
     if not isinstance(value, tuple) or len(value) == 0:
         return False
@@ -137,12 +149,14 @@ def _is_part(value):
         return len(value) == 1
     if kind == "rep":
         return len(value) == 2
+    if kind == "call":
+        return len(value) == 2 and value[1] in procedures
     return kind in ("seq", "or") and len(value) > 2
 
 
 def _members(part):
     """Return the programs directly in this one."""
-    if part[0] == "do":
+    if part[0] in ("do", "call"):
         return ()
     return part[1:]
 

@@ -1,6 +1,9 @@
 """The sets that fit to a table, and the families that they are."""
 
-from lasttouch.bits import are_least_sets, bit_table_of, bits_of, fits, least, named_sets, table_names
+from lasttouch.bits import (
+    above, are_least_sets, bit_table_of, bits_of, bits_of_each, fitting_sets, is_in, least, listed_bits, named_sets,
+    one_less, order_in_front, table_names, together,
+)
 from lasttouch.errors import InvalidFamily, InvalidNames
 from lasttouch.programs import MOST_NAMES, check_set, is_ascending, is_set
 from lasttouch.tables import check_table
@@ -18,7 +21,7 @@ def fitting(table):
     check_table(table)
     every = table_names(table)
     _, rows = bit_table_of(table, every)
-    return named_sets([bits for bits in range(1 << len(every)) if fits(bits, rows)], every)
+    return named_sets(listed_bits(fitting_sets(rows)), every)
 
 
 def order(table, names):
@@ -27,15 +30,10 @@ def order(table, names):
     check_set(names)
     every = table_names(table)
     _, rows = bit_table_of(table, every)
-    left = bits_of(names, every)
-    if not all([name in every for name in names]) or not fits(left, rows):
+    bits, found = bits_of(names, every), fitting_sets(rows)
+    if not all([name in every for name in names]) or not is_in(bits, found):
         return None
-    word = []
-    while left:
-        place = _first_places(left, rows)[0]
-        word.append(every[place])
-        left = left - (1 << place)
-    return tuple(word)
+    return tuple([every[place] for place in order_in_front(bits, 0, found)])
 
 
 def is_family(value):
@@ -45,11 +43,11 @@ def is_family(value):
     every = _all_names(value)
     if len(every) > MOST_NAMES or not is_ascending(value):
         return False
-    found = [bits_of(members, every) for members in value]
-    known = {bits: True for bits in found}
-    if 0 not in known or not all([(one | other) in known for one in found for other in found]):
+    listed = bits_of_each(value, every)
+    found = together(listed)
+    if not is_in(0, found) or not all([is_in(one | other, found) for one in listed for other in listed]):
         return False
-    return all([bits == 0 or _is_built_up(bits, known, every) for bits in found])
+    return all([bits == 0 or any([is_in(rest, found) for rest in one_less(bits)]) for bits in listed])
 
 
 def family_table(family, starts):
@@ -59,27 +57,15 @@ def family_table(family, starts):
     every = _all_names(family)
     if not are_least_sets(starts, every) or not all([members in family for members in starts]):
         raise InvalidNames("not a tuple of sets of the family, none within another one")
-    found = [bits_of(members, every) for members in family]
-    known = {bits: True for bits in found}
+    listed = bits_of_each(family, every)
+    found = together(listed)
     rows = []
     for place, name in enumerate(every):
-        behind = [bits for bits in found if not bits & (1 << place) and (bits | (1 << place)) in known]
-        rows.append((name, named_sets(least(behind), every)))
+        behind = [bits for bits in listed if not bits & (1 << place) and is_in(bits | (1 << place), found)]
+        rows.append((name, named_sets(least(above(behind, len(every))), every)))
     return starts, tuple(rows)
 
 
 def _all_names(family):
     """Return the set of the names in the sets."""
     return tuple(sorted({name for members in family for name in members}))
-
-
-def _is_built_up(bits, known, every):
-    """Return whether some name can be taken away such that a known set is left."""
-    return any([bits & (1 << place) and (bits - (1 << place)) in known for place in range(len(every))])
-
-
-def _first_places(bits, rows):
-    """Return the places of the names that can stand before all others of a set that fits."""
-    # In some order of the set there is enough behind each name, so there is if all others stand there.
-    single = [1 << place for place in range(len(rows))]
-    return [place for place, bit in enumerate(single) if bits & bit and fits(bits - bit, rows)]

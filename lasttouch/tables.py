@@ -1,7 +1,8 @@
 """The tables of programs and of words, and what a table tells of the fact."""
 
 from lasttouch.bits import (
-    are_least_sets, bit_table_of, do_table, fits, named_table, or_table, seq_table, skip_table, table_names,
+    are_least_sets, bit_table_of, bits_of, do_table, fitting_sets, is_in, named_table, or_table, seq_table, skip_table,
+    table_names,
 )
 from lasttouch.errors import InvalidTable
 from lasttouch.labels import check_labelling, check_start, marks_for
@@ -13,27 +14,30 @@ EXCHANGED = {"gen": "kill", "kill": "gen", "pass": "pass"}
 def table(program):
     """Return the table of the program."""
     every = names(program)
-    return named_table(bit_table(program, every), every)
+    return named_table(bit_table(program, every, {}), every)
 
 
-def bit_table(part, every):
-    """Return the bit table of what is known to be a program with no other names than these."""
+def bit_table(part, every, called):
+    """Return the bit table of what is known to be a program with no other names than these.
+
+    Where procedures may be called in it, called is the dict of their bit tables.
+    """
     kind = part[0]
     if kind == "do":
-        return do_table(every.index(part[1]), every)
+        return do_table(every.index(part[1]), len(every))
     if kind == "skip":
-        return skip_table(every)
-    members = [bit_table(member, every) for member in part[1:]]
-    if kind == "seq":
-        found = members[0]
-        for member in members[1:]:
-            found = seq_table(found, member)
-        return found
+        return skip_table(len(every))
+    if kind == "call":
+        return called[part[1]]
+    found = bit_table(part[1], every, called)
     # If a program is done several times, what stands behind an action contains what stands
     # behind it in one of these times. So a rep has the table of a choice of skip and its program.
     if kind == "rep":
-        members.append(skip_table(every))
-    return or_table(members)
+        return or_table(found, skip_table(len(every)))
+    for member in part[2:]:
+        other = bit_table(member, every, called)
+        found = seq_table(found, other) if kind == "seq" else or_table(found, other)
+    return found
 
 
 def word_table(word):
@@ -59,8 +63,9 @@ def is_table(value):
         return False
     # That no set of a row contains the name of the row is not asked by itself: such a set would
     # fit only if another set of the row were within it.
-    bit_starts, bit_rows = bit_table_of(value, every)
-    return all([fits(bits, bit_rows) for sets in [bit_starts, *bit_rows] for bits in sets])
+    _, bit_rows = bit_table_of(value, every)
+    fitting = fitting_sets(bit_rows)
+    return all([is_in(bits_of(members, every), fitting) for sets in listed for members in sets])
 
 
 def check_table(table):

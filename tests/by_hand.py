@@ -203,13 +203,12 @@ def orders_by_hand(table, names):
 
 
 def antichains(sets):
-    """All tuples of one or more of the sets of which none contains another one."""
-    found = []
-    for bits in range(1, 1 << len(sets)):
-        chosen = tuple(members for at, members in enumerate(sets) if bits & 1 << at)
-        if least_by_hand(chosen) == chosen:
-            found.append(chosen)
-    return found
+    """All tuples of one or more of the sets, which ascend, of which none contains another one."""
+    found = [()]
+    for members in sets:
+        found += [chosen + (members,) for chosen in found
+                  if not any(set(members) <= set(other) or set(other) <= set(members) for other in chosen)]
+    return found[1:]
 
 
 def table_forms(names):
@@ -248,6 +247,52 @@ def all_families(names):
         if {name for members in chosen for name in members} == set(names) and is_family_by_hand(chosen):
             found.append(chosen)
     return sorted(found)
+
+
+def families_of(names):
+    """All families whose names together are exactly these, for up to four names, each with its sets in
+    ascending order: begin with the whole set and the empty one, and put sets in between."""
+    full = tuple(sorted(names))
+    found, waiting = set(), [frozenset({()})]
+    while waiting:
+        family = waiting.pop()
+        if family in found:
+            continue
+        found.add(family)
+        for one in family:
+            for name in set(full) - set(one):
+                new = set(one) | {name}
+                waiting.append(family | {tuple(sorted(new | set(other))) for other in family})
+    return sorted(tuple(sorted(family)) for family in found if full in family)
+
+
+def last_by_hand(word):
+    """What is left of the word if only the last occurrence of every name is kept."""
+    return tuple(name for at, name in enumerate(word) if name not in word[at + 1:])
+
+
+def sets_in(table):
+    """How many sets starts and all rows have together."""
+    return len(table[0]) + sum(len(sets) for _, sets in table[1])
+
+
+def below_by_hand(one, other):
+    """Whether a program with the one table is below one with the other: whether every set of the one
+    contains a set of the other."""
+    rows = dict(other[1])
+    pairs = [(one[0], other[0])] + [(sets, rows.get(name, ())) for name, sets in one[1]]
+    return all(any(set(there) <= set(here) for there in wanted) for sets, wanted in pairs for here in sets)
+
+
+def draw_tables(random, many, letters):
+    """So many tables over these names, of lists of words that become longer and longer."""
+    found = []
+    for at in range(many):
+        words = [tuple(random.choices(letters, k=random.randrange(9))) for _ in range(at // 4 + 1)]
+        if at % 2:
+            words = [word + tuple(random.sample(letters, random.randrange(1, len(letters)))) for word in words]
+        found.append(table_by_hand(words))
+    return found
 
 
 def not_these(accepted, more=()):
