@@ -11,12 +11,10 @@ from lasttouch.bits import AT_START, least, order_in_front
 def pairs_of(bit_table):
     """Return the list of the pairs of a bit table, those of starts first."""
     starts, rows = bit_table
-    return [(AT_START, bits) for bits in least(starts)] + row_pairs(rows)
-
-
-def row_pairs(rows):
-    """Return the list of the pairs of the rows of a bit table."""
-    return [(place, bits) for place, sets in enumerate(rows) for bits in least(sets)]
+    found = [(AT_START, bits) for bits in least(starts)]
+    for place, sets in enumerate(rows):
+        found.extend([(place, bits) for bits in least(sets)])
+    return found
 
 
 def with_name(pair):
@@ -26,9 +24,12 @@ def with_name(pair):
 
 
 def chains(pairs):
-    """Return as few chains as possible with every pair in one of them, each with its last pair first."""
+    """Return as few chains as possible with every pair in one of them, each with its last pair first.
+
+    Those of starts come first, in the order of the pairs, since a pair of starts is always the last.
+    """
     inner = _links(_outer_ones(pairs))
-    linked = {low: True for low in inner.values()}
+    linked = {number: True for number in inner.values()}
     found = []
     for at in range(len(pairs)):
         if at not in linked:
@@ -43,7 +44,7 @@ def apart_pairs(pairs):
     """Return as many of the pairs as there are chains, no two of which one word can have."""
     outer = _outer_ones(pairs)
     inner = _links(outer)
-    linked = {low: True for low in inner.values()}
+    linked = {number: True for number in inner.values()}
     # The last pair of each chain is reached. If a pair is reached from within, too, so is the one
     # before it in its chain; the first one is not, or there could be more links. So one pair of
     # each chain is chosen, and none lies within another one, which would be reached from within.

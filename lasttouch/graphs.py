@@ -125,7 +125,7 @@ def _straight_ways(edges, name):
         if way[-1] == END:
             found.append(way[1:-1])
             continue
-        barred = [to for member in way[:-1] for to in _nexts(member, edges)]
+        barred = [near for member in way[:-1] for near in _nexts(member, edges)]
         for to in _nexts(way[-1], edges):
             if to not in way and to not in barred:
                 waiting.append((*way, to))

@@ -31,7 +31,31 @@ INTERFACE = {
         "left_out": ["graph"], "greatest_edges": ["graph"], "fewest_edges": ["graph"], "graph_of": ["table"],
     },
     "residuals": {"most_behind": ["one", "other"], "most_before": ["one", "other"]},
+    "books": {
+        "is_book": ["value"], "book_table": ["book", "name"], "table_within": ["book", "name", "depth"],
+        "without_calls": ["book", "name"], "put_in": ["program", "name", "other"],
+    },
+    "counting": {"classes": ["number"], "families": ["number"], "tables": ["names"]},
+    "objects": {},
+    "chains": {
+        "derivation": ["words", "word"], "fewest": ["table"], "apart": ["table"], "words_both": ["forward", "backward"],
+    },
 }
+# The methods and properties that stand in the body of each class of lasttouch.objects, with the names of
+# their arguments behind the first one.
+CLASSES = {
+    "Flow": {
+        "__init__": ["program"], "of_text": ["text"], "__or__": ["other"], "__rshift__": ["other"], "repeated": [],
+        "__call__": ["labelling", "start"], "__eq__": ["other"], "__len__": [], "__contains__": ["x"], "program": [], "text": [],
+        "table": [],
+    },
+    "Tracker": {
+        "__init__": [], "do": ["name"], "behind": ["name"], "holds": ["labelling", "start"], "done": [], "table": [], "__len__": [],
+        "undo": [],
+    },
+    "Keeper": {"__init__": ["labelling", "start"], "fact": [], "do": ["name"]},
+}
+BASES = {"Flow": [], "Tracker": [], "Keeper": ["Tracker"]}
 BARRED = (
     ast.Global, ast.AsyncFunctionDef, ast.AsyncFor, ast.AsyncWith, ast.Await, ast.GeneratorExp, ast.Div, ast.Import,
 )
@@ -70,6 +94,21 @@ class Interface(unittest.TestCase):
                 with self.subTest(name):
                     self.assertEqual([arg.arg for arg in found[name].args], wanted)
                     self.assertEqual(found[name].defaults, [])
+
+    def test_each_method_stands_in_its_class(self):
+        tree = ast.parse((PACKAGE / "objects.py").read_text(encoding="utf-8"))
+        found = {node.name: node for node in tree.body if isinstance(node, ast.ClassDef)}
+        for name, wanted in CLASSES.items():
+            methods = {node.name: node.args for node in found[name].body if isinstance(node, ast.FunctionDef)}
+            self.assertEqual([base.id for base in found[name].bases], BASES[name])
+            for method, arguments in wanted.items():
+                with self.subTest(name, method=method):
+                    self.assertEqual([arg.arg for arg in methods[method].args][1:], arguments)
+                    self.assertEqual(methods[method].defaults, [])
+
+    def test_there_are_no_other_files_of_the_interface(self):
+        shared = {"__init__", "errors", "bits", "covers"}
+        self.assertEqual({path.stem for path in files()}, shared | set(INTERFACE))
 
     def test_the_init_is_empty(self):
         self.assertEqual((PACKAGE / "__init__.py").read_bytes(), b"")

@@ -7,7 +7,7 @@ import unittest
 from lasttouch.equality import below
 from lasttouch.errors import InvalidTable, TooLarge
 from lasttouch.residuals import most_before, most_behind
-from lasttouch.tables import is_table, table, word_table
+from lasttouch.tables import is_table, table
 from lasttouch.texts import read
 from lasttouch.words import program_of
 from tests.by_hand import (

@@ -12,7 +12,7 @@ from tests.by_hand import (
     Quick, all_labellings, all_tables, antichains, below_by_hand, draw_tables, families_of, holds_by_hand, last_by_hand,
     random_program, sets_in, small_programs, table_by_hand, table_forms,
 )
-from tests.samples import A, SKIP, STRANGE, choice, deep, wide
+from tests.samples import STRANGE, choice, deep, wide
 from tests.test_labels import NOT_WORDS
 from tests.test_tables import CHAIN, EMPTY, MANY, NOT_TABLES, ONE, WIDEST
 
@@ -312,10 +312,6 @@ class OneWordBelowOthers(Quick):
             stays = table_by_hand(words + [word]) == table_by_hand(words)
             self.assertIs(grounds(words, word) is not None, stays, (words, word))
             self.assertIs(below_by_hand(table_by_hand([word]), table_by_hand(words)), stays)
-
-    def test_what_a_program_does(self):
-        self.assertEqual(table(program_of(table(SKIP))), table(SKIP))
-        self.assertIn(program_of(table(A)), [A, ("seq", A, SKIP), ("seq", A, ("or", SKIP, A))])
 
 
 if __name__ == "__main__":
